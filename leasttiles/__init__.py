@@ -1,0 +1,1 @@
+"""Back ends made from machine descriptions."""
