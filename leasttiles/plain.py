@@ -1,5 +1,8 @@
 """What plain values are, asked of values of any form."""
 
+LETTERS = "abcdefghijklmnopqrstuvwxyz"
+DIGITS = "0123456789"
+
 
 def is_within(value, least, most):
     """Whether a value is an integer from least to most; True and False are none."""

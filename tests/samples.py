@@ -191,6 +191,20 @@ class Dice:
         rows = tuple(self.rule(f"x{number}", kinds, deep) for number in range(rules))
         return (width, self.number(2, 16), self.number(0, 64), (1, 2, 3), rows)
 
+    def rich_machine(self, width, rules, kinds=("a", "b")):
+        """A machine that also has, most often, the rules that cover the trees of small_tree."""
+        rows = list(self.machine(width, rules, kinds)[4])
+        patterns = [("reg", ("imm", 0, 300))]
+        patterns += [("reg", (op, REG)) for op in ("load", "neg", "not")]
+        patterns += [("reg", (op, REG, REG)) for op in ("add", "sub")]
+        patterns += [("", (op, REG)) for op in ("write", "branch", "return")]
+        patterns.append(("", ("store", REG, REG)))
+        for number, (result, pattern) in enumerate(patterns):
+            if self.number(0, 9) > 0:
+                at = self.number(0, len(rows))
+                rows.insert(at, (f"y{number}", result, pattern, self.number(0, 6), 1, 0, ()))
+        return (width, 4, 8, (1, 2, 3), tuple(rows))
+
     def small_expression(self, width, deep):
         """An expression over few ops, which patterns of machine() fit often."""
         if deep <= 1 or self.number(0, 3) == 0:

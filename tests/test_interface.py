@@ -5,9 +5,17 @@ import inspect
 import sys
 import unittest
 
+from leasttiles.costs import check_costs, cost_table, parts
+from leasttiles.covers import cover_cost, holes, least_cover, uncovered
+from leasttiles.errors import TextError
 from leasttiles.functions import function_faults, live_in, uses
+from leasttiles.machines import (
+    are_operands, is_tile, leaves, machine_faults, ties_kept, tile_cost, tile_value, whole_pattern,
+)
+from leasttiles.machtext import read_machine, show_machine
 from leasttiles.run import run, trace
-from samples import Dice, nest, wrap
+from leasttiles.text import read_function, show_expression, show_function
+from samples import REG, Dice, nest, wrap
 
 INTERFACE = {
     "words": {"top": "(w)", "compute": "(op, w, x, y)"},
@@ -19,7 +27,40 @@ INTERFACE = {
         "function_faults": "(value)", "successors": "(block)", "uses": "(e)", "live_in": "(function)",
     },
     "run": {"run": "(function, inputs, *, fuel)", "trace": "(function, inputs, *, fuel)"},
+    "text": {"show_function": "(function)", "show_expression": "(e)", "read_function": "(text)"},
+    "machines": {
+        "machine_faults": "(value)", "is_tile": "(machine, result, value)", "leaves": "(machine, tile)",
+        "whole_pattern": "(machine, tile)", "fits_imm": "(w, word, least, most)", "tile_cost": "(machine, tile)",
+        "are_operands": "(machine, tile, value)", "ties_kept": "(machine, tile, result, operands)",
+        "tile_value": "(machine, tile, operands, registers, memory)",
+    },
+    "machtext": {"show_machine": "(machine)", "read_machine": "(text)"},
+    "covers": {
+        "holes": "(machine, k, tree)", "cover_cost": "(machine, tree, result, value)",
+        "least_cover": "(machine, tree, result)", "uncovered": "(machine, function)",
+    },
+    "costs": {"parts": "(tree)", "check_costs": "(machine, tree, value)", "cost_table": "(machine, tree)"},
 }
+
+# Its tiles of the kind a nest without a limit, and so do its covers.
+NESTING = (
+    8,
+    4,
+    0,
+    (1, 1, 1),
+    (
+        ("nots", "a", ("not", ("not", ("not", ("not", ("not", ("nt", "a")))))), 1, 1, 0, ()),
+        ("rega", "a", REG, 1, 1, 0, ()),
+        ("ab", "a", ("nt", "b"), 1, 1, 0, ()),
+        ("li", "reg", ("imm", 0, 1), 1, 1, 0, ()),
+        ("not", "reg", ("not", REG), 1, 1, 0, ()),
+        ("wr", "", ("write", ("nt", "a")), 1, 1, 0, ()),
+        ("bc", "b", ("nt", "c"), 1, 1, 0, ()),
+        ("cd", "c", ("nt", "d"), 1, 1, 0, ()),
+        ("da", "d", ("not", ("nt", "a")), 0, 1, 0, ()),
+        ("ba", "b", ("nt", "a"), 1, 1, 0, ()),
+    ),
+)
 
 
 def deepest(call):
@@ -76,6 +117,64 @@ class Depth(unittest.TestCase):
         ):
             self.assertLessEqual(deepest(call), 100)
 
+    def test_texts(self):
+        e = nest("not", ("var", 3), 20)
+        function = (8, 0, ((0, (("write", e),), ("return", e)),))
+        text = show_function(function)
+
+        def too_deep():
+            with self.assertRaises(TextError):
+                read_function(text.replace("v3", "(" * 50000))
+
+        for call in (
+            lambda: show_function(function),
+            lambda: show_expression(e),
+            lambda: self.assertEqual(read_function(text), function),
+            too_deep,
+            lambda: read_machine(show_machine(NESTING)),
+        ):
+            self.assertLessEqual(deepest(call), 100)
+
+    def test_tiles(self):
+        tile = (1, ())
+        for _ in range(89):
+            tile = (0, (tile,))
+        self.assertTrue(is_tile(NESTING, "a", tile))
+        for call in (
+            lambda: machine_faults(wrap(1, 50000)),
+            lambda: machine_faults((*NESTING[:4], (("x", "reg", nest("not", REG, 50000), 1, 1, 0, ()),))),
+            lambda: is_tile(NESTING, "a", tile),
+            lambda: is_tile(NESTING, "a", (0, (tile,))),
+            lambda: is_tile(NESTING, "a", wrap(1, 50000)),
+            lambda: leaves(NESTING, tile),
+            lambda: whole_pattern(NESTING, tile),
+            lambda: tile_cost(NESTING, tile),
+            lambda: are_operands(NESTING, tile, (0,)),
+            lambda: ties_kept(NESTING, tile, 0, (0,)),
+            lambda: tile_value(NESTING, tile, (0,), [1], []),
+        ):
+            self.assertLessEqual(deepest(call), 100)
+
+    def test_covers(self):
+        tree = ("write", nest("not", ("int", 1), 20))
+        cover = least_cover(NESTING, tree, "")[1]
+        long_way = (1, (("var", 0),))
+        for _ in range(20000):
+            long_way = (2, ((9, (long_way,)),))
+        function = (8, 0, ((0, (tree,) * 60, ("go", 1)), (1, (), ("return", tree[1]))))
+        for call in (
+            lambda: self.assertIsNotNone(least_cover(NESTING, tree, "")),
+            lambda: cover_cost(NESTING, tree, "", cover),
+            lambda: self.assertEqual(cover_cost(NESTING, ("write", ("var", 0)), "", (5, (long_way,))), 40002),
+            lambda: cover_cost(NESTING, ("int", 1), "a", wrap(1, 50000)),
+            lambda: holes(NESTING, 5, tree),
+            lambda: uncovered(NESTING, function),
+            lambda: parts(tree),
+            lambda: check_costs(NESTING, tree, cost_table(NESTING, tree)),
+            lambda: check_costs(NESTING, tree, wrap(1, 50000)),
+        ):
+            self.assertLessEqual(deepest(call), 100)
+
 
 class Bounds(unittest.TestCase):
     def test_the_largest_function(self):
@@ -96,6 +195,20 @@ class Bounds(unittest.TestCase):
         self.assertEqual(run(function, (1,) * 8, fuel=100)[2], 51)
         self.assertEqual(live_in(function)[0], (1000, (120,)))
         self.assertEqual(uses(e), (120,))
+        self.assertEqual(read_function(show_function((8, 0, ((0, (), ("return", nest("neg", ("var", 120), 20))),)))),
+                         (8, 0, ((0, (), ("return", nest("neg", ("var", 120), 20))),)))
+
+    def test_the_largest_machine(self):
+        for seed in range(3):
+            dice = Dice(seed)
+            machine = dice.machine(16, 60, ("a", "b", "c", "d"), 5)
+            self.assertEqual(machine_faults(machine), [])
+            self.assertEqual(read_machine(show_machine(machine)), machine)
+            function = (16, 0, tuple((label, tuple(dice.statement(16, 6) for _ in range(60)), ("return", ("int", 0)))
+                                     for label in range(5)))
+            self.assertLessEqual(len(uncovered(machine, function)), 305)
+            tree = dice.small_tree(16, 9)
+            self.assertTrue(check_costs(machine, tree, cost_table(machine, tree)))
 
 
 if __name__ == "__main__":
