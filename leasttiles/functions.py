@@ -1,6 +1,7 @@
 """The form of functions, their faults, and the ways through their blocks."""
 
 from leasttiles.plain import is_row, is_within
+from leasttiles.ways import live_names
 from leasttiles.words import PAIRS, SINGLES, top
 
 MOST_BLOCKS = 40
@@ -153,15 +154,5 @@ def _uses_and_sets(block):
 def live_in(function):
     """For each block its label and the variables that some way from its beginning uses before it sets them."""
     blocks = function[2]
-    rows = [(block[0], successors(block), _uses_and_sets(block)) for block in blocks]
-    live = {label: dict(used) for label, _, (used, placed) in rows}
-    changed = True
-    while changed:
-        changed = False
-        for label, ways, (used, placed) in reversed(rows):
-            mine = live[label]
-            more = [v for way in ways for v in live[way] if v not in placed and v not in mine]
-            for v in more:
-                mine[v] = True
-                changed = True
+    live = live_names([(block[0], successors(block), *_uses_and_sets(block)) for block in blocks])
     return [(block[0], tuple(sorted(live[block[0]]))) for block in blocks]

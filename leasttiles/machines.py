@@ -190,17 +190,25 @@ def _apply(width, op, parts, memory):
     return compute(op, width, parts[0], parts[-1])
 
 
-def tile_value(machine, tile, operands, registers, memory):
-    """The word of a tile's pattern, or the pair of address and word for a store."""
-    width = machine[0]
+def nodes_value(width, nodes, words, memory):
+    """What the nodes of a tile's whole pattern give for the words of its leaves."""
     found = []
     at = 0
-    for node, count in tile_nodes(machine, tile):
+    for node, count in nodes:
         if count > 0:
             behind = len(found) - count
             found[behind:] = [_apply(width, node, found[behind:], memory)]
         else:
-            operand = operands[at]
+            found.append(words[at])
             at += 1
-            found.append(registers[operand] if node[0] == "reg" else operand & top(width))
     return found[0]
+
+
+def tile_value(machine, tile, operands, registers, memory):
+    """The word of a tile's pattern, or the pair of address and word for a store."""
+    width = machine[0]
+    nodes = tile_nodes(machine, tile)
+    words = []
+    for leaf, operand in zip(leaves(machine, tile), operands):
+        words.append(registers[operand] if leaf[0] == "reg" else operand & top(width))
+    return nodes_value(width, nodes, words, memory)

@@ -1,24 +1,16 @@
 """Runs of functions."""
 
+from leasttiles.plays import Steps, finish
 from leasttiles.words import CELLS, PAIRS, SINGLES, compute
 
 
-class Play:
+class Play(Steps):
     """A run of a function as it stands between two blocks."""
 
     def __init__(self, function, inputs):
+        Steps.__init__(self, function[2])
         self.width = function[0]
-        self.blocks = {block[0]: block for block in function[2]}
-        self.label = function[2][0][0]
         self.words = {v: word for v, word in enumerate(inputs)}
-        self.memory = [0] * CELLS
-        self.writes = []
-        self.end = ("none",)
-        self.steps = 0
-
-    def may_enter(self, fuel):
-        """Whether the run goes on with so much fuel from its beginning."""
-        return self.end[0] == "none" and self.steps < fuel
 
     def enter(self):
         """Do the block to which the run has come."""
@@ -60,10 +52,7 @@ class Play:
 
 def run(function, inputs, *, fuel):
     """The words written, the end, and the number of blocks entered."""
-    play = Play(function, inputs)
-    while play.may_enter(fuel):
-        play.enter()
-    return (play.writes, play.end, play.steps)
+    return finish(Play(function, inputs), fuel)
 
 
 def trace(function, inputs, *, fuel):

@@ -9,6 +9,13 @@ def own_parts(tree):
     return () if tree[0] in ("int", "var") else tree[1:]
 
 
+def leaf_parts(pattern, tree):
+    """The leaves of a pattern that fits a tree, from the left, each with the part that stands there."""
+    if pattern[0] in ("reg", "imm", "nt"):
+        return [(pattern, tree)]
+    return [pair for inner, part in zip(pattern[1:], tree[1:]) for pair in leaf_parts(inner, part)]
+
+
 class Tree:
     """The parts of a tree, numbered from 0, each ahead of its own parts."""
 

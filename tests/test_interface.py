@@ -5,10 +5,15 @@ import inspect
 import sys
 import unittest
 
+from code_samples import full_machine, tile_of_name, untied, with_rules
+from leasttiles.codes import code_faults, cost_of, reads
+from leasttiles.coderun import run_code
 from leasttiles.costs import check_costs, cost_table, parts
 from leasttiles.covers import cover_cost, holes, least_cover, uncovered
+from leasttiles.emit import emit, tied
 from leasttiles.errors import TextError
 from leasttiles.functions import function_faults, live_in, uses
+from leasttiles.listing import read_code, show_code
 from leasttiles.machines import (
     are_operands, is_tile, leaves, machine_faults, ties_kept, tile_cost, tile_value, whole_pattern,
 )
@@ -40,6 +45,13 @@ INTERFACE = {
         "least_cover": "(machine, tree, result)", "uncovered": "(machine, function)",
     },
     "costs": {"parts": "(tree)", "check_costs": "(machine, tree, value)", "cost_table": "(machine, tree)"},
+    "codes": {
+        "code_faults": "(machine, value)", "cost_of": "(machine, code)", "reads": "(machine, instruction)",
+        "changes": "(instruction)",
+    },
+    "coderun": {"run_code": "(machine, code, inputs, *, fuel)"},
+    "listing": {"show_code": "(machine, code)", "read_code": "(machine, text)"},
+    "emit": {"emit": "(machine, function)", "tied": "(machine, wide)"},
 }
 
 # Its tiles of the kind a nest without a limit, and so do its covers.
@@ -176,7 +188,63 @@ class Depth(unittest.TestCase):
             self.assertLessEqual(deepest(call), 100)
 
 
+    def test_code(self):
+        tile = (1, ())
+        for _ in range(88):
+            tile = (0, (tile,))
+        code = ((0,), ((0, (("tile", (5, (tile,)), -1, (0,)),), ("go", 0)),))
+        text = show_code(NESTING, code)
+        for call in (
+            lambda: self.assertEqual(code_faults(NESTING, code), []),
+            lambda: code_faults(NESTING, wrap(1, 50000)),
+            lambda: code_faults(NESTING, ((), ((0, (wrap(1, 50000),), wrap(1, 50000)),))),
+            lambda: cost_of(NESTING, code),
+            lambda: reads(NESTING, code[1][0][1][0]),
+            lambda: run_code(NESTING, code, (5,), fuel=5),
+            lambda: show_code(NESTING, code),
+            lambda: self.assertEqual(read_code(NESTING, text), code),
+            lambda: read_code(NESTING, text.replace("rega", "nots[" * 5000 + "rega" + "]" * 5000)),
+            lambda: tied(NESTING, code),
+        ):
+            self.assertLessEqual(deepest(call), 100)
+
+    def test_emit(self):
+        # Each part is covered by way of all four kinds and a register: the covers nest more than 100 deep.
+        steps = ("ab", "bc", "cd", "da")
+        rules = [(name, name[0], ("nt", name[1]), 1, 1, 0, ()) for name in steps[:3]]
+        rules += [("dreg", "d", REG, 1, 1, 0, ()), ("nota", "reg", ("not", ("nt", "a")), 1, 1, 0, ()),
+                  ("wr", "", ("write", ("nt", "a")), 1, 1, 0, ()), ("ret", "", ("return", REG), 1, 1, 0, ())]
+        machine = with_rules(NESTING, rules=tuple(rules))
+        tree = ("write", nest("not", ("var", 1), 25))
+        function = (8, 2, ((0, (tree,) * 3, ("return", ("var", 0))),))
+        self.assertLessEqual(deepest(lambda: emit(machine, function)), 100)
+        wide = emit(machine, function)
+        self.assertEqual(run_code(machine, wide, (3, 5), fuel=1), run(function, (3, 5), fuel=1))
+        operand = tile_of_name(machine, "ab", (1, ((2, ((3, ()),)),)))
+        self.assertEqual(wide[1][0][1][0], ("tile", (4, (operand,)), 100, (1,)))
+        tree = ("write", nest("not", ("int", 1), 20))
+        function = (8, 0, ((0, (tree,), ("go", 1)), (1, (), ("go", 1))))
+        self.assertLessEqual(deepest(lambda: emit(NESTING, function)), 100)
+        self.assertLessEqual(deepest(lambda: tied(NESTING, emit(NESTING, function))), 100)
+
+
 class Bounds(unittest.TestCase):
+    def test_the_largest_code(self):
+        dice = Dice(4)
+        machine = full_machine(dice, 16, 16, 64)
+        rows = []
+        for label in range(40):
+            body = tuple(dice.statement(16, 5) for _ in range(60))
+            rows.append((label, body, ("if", ("var", 0), min(label + 1, 39), max(label, 1))))
+        function = (16, 6, tuple(rows))
+        wide, _ = tied(machine, emit(machine, function))
+        wider = untied(with_rules(machine, registers=100000))
+        self.assertEqual(code_faults(wider, wide), [])
+        self.assertEqual(read_code(machine, show_code(machine, wide)), wide)
+        inputs = (1, 2, 3, 4, 5, 6)
+        self.assertEqual(run_code(machine, wide, inputs, fuel=100), run(function, inputs, fuel=100))
+        self.assertGreater(cost_of(machine, wide), 2400)
+
     def test_the_largest_function(self):
         dice = Dice(1)
         rows = []
