@@ -23,6 +23,27 @@ SRCR, SRCI, ADRA, ADRR = tile("srcr"), tile("srci"), tile("adra"), tile("adrr")
 WR, RET, BRL, MULQ, SHLI = tile("wr"), tile("ret"), tile("brl"), tile("mulq"), tile("shli")
 
 
+# Instructions and ends for MACHINE.
+def add(d, a, b):
+    return ("tile", ADD, d, (a, b))
+
+
+def li(d, word=7):
+    return ("tile", LI, d, (word,))
+
+
+def write(a):
+    return ("tile", WR, -1, (a,))
+
+
+def ret(a):
+    return ("return", RET, (a,))
+
+
+def branch(a, one, other):
+    return ("branch", tile("br", SRCR), (a,), one, other)
+
+
 def with_rules(machine, **names):
     """The machine with some of its registers, frame, costs or rules changed."""
     keys = ("width", "registers", "frame", "costs", "rules")

@@ -64,6 +64,8 @@ class Instructions(unittest.TestCase):
         rows = [("spill", 7, 0), ("spill", 0, 1), ("fill", 2, 7), ("fill", 3, 0), ("fill", 0, 5)]
         self.assertEqual(self.written(rows, (5, 6), (0, 1)), [0, 6, 5, 6])
         self.assertEqual(self.written([("fill", 1, 7), ("fill", 0, 0)], (5, 6), (0, 1)), [0, 0, 0, 0])
+        rows = [("spill", 7, 0), ("spill", 7, 3), ("fill", 1, 7)]
+        self.assertEqual(self.written(rows, (5, 6), (0, 1)), [5, 0, 0, 0])
 
     def test_frame_and_memory_apart(self):
         rows = [("spill", 3, 0), ("tile", LD, 1, (2, 3)), ("tile", ST, -1, (2, 3, 9)), ("fill", 3, 3)]

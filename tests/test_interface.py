@@ -7,18 +7,23 @@ import unittest
 
 from code_samples import full_machine, tile_of_name, untied, with_rules
 from leasttiles.codes import code_faults, cost_of, reads
+from leasttiles.colour import assign
 from leasttiles.coderun import run_code
 from leasttiles.costs import check_costs, cost_table, parts
 from leasttiles.covers import cover_cost, holes, least_cover, uncovered
+from leasttiles.depend import depends
 from leasttiles.emit import emit, tied
 from leasttiles.errors import TextError
 from leasttiles.functions import function_faults, live_in, uses
 from leasttiles.listing import read_code, show_code
+from leasttiles.live import live_at, meetings
 from leasttiles.machines import (
     are_operands, is_tile, leaves, machine_faults, ties_kept, tile_cost, tile_value, whole_pattern,
 )
 from leasttiles.machtext import read_machine, show_machine
+from leasttiles.moves import sequence
 from leasttiles.run import run, trace
+from leasttiles.schedule import in_order, is_schedule, least_schedule, list_schedule
 from leasttiles.text import read_function, show_expression, show_function
 from samples import REG, Dice, nest, wrap
 
@@ -52,6 +57,14 @@ INTERFACE = {
     "coderun": {"run_code": "(machine, code, inputs, *, fuel)"},
     "listing": {"show_code": "(machine, code)", "read_code": "(machine, text)"},
     "emit": {"emit": "(machine, function)", "tied": "(machine, wide)"},
+    "depend": {"depends": "(machine, rows)", "needs": "(machine, instruction)", "gives": "(instruction)"},
+    "schedule": {
+        "is_schedule": "(machine, rows, cycles)", "schedule_length": "(machine, rows, cycles)",
+        "list_schedule": "(machine, rows)", "least_schedule": "(machine, rows)", "in_order": "(rows, cycles)",
+    },
+    "live": {"live_at": "(machine, wide)", "meetings": "(machine, wide)"},
+    "colour": {"assign": "(machine, wide, fixed)"},
+    "moves": {"sequence": "(pairs, spare)"},
 }
 
 # Its tiles of the kind a nest without a limit, and so do its covers.
@@ -227,6 +240,35 @@ class Depth(unittest.TestCase):
         self.assertLessEqual(deepest(lambda: emit(NESTING, function)), 100)
         self.assertLessEqual(deepest(lambda: tied(NESTING, emit(NESTING, function))), 100)
 
+    def test_orders(self):
+        machine = full_machine(Dice(2), 8, 16, 8)
+        add = tile_of_name(machine, "addq")
+        rows = tuple(("tile", add, at + 1, (at, at)) for at in range(3000))
+        for call in (
+            lambda: depends(machine, rows),
+            lambda: self.assertTrue(is_schedule(machine, rows, list_schedule(machine, rows))),
+            lambda: least_schedule(machine, rows[:8]),
+            lambda: least_schedule(machine, rows[:16:2]),
+            lambda: is_schedule(machine, rows, wrap(1, 50000)),
+        ):
+            self.assertLessEqual(deepest(call), 100)
+
+    def test_registers(self):
+        machine = untied(full_machine(Dice(2), 8, 4, 64))
+        add, ret = tile_of_name(machine, "addq"), tile_of_name(machine, "ret")
+        rows = tuple(("tile", add, at % 50 + 1, (at % 50, 0)) for at in range(3000))
+        blocks = [(label, rows[label:label + 9], ("go", label + 1)) for label in range(900)]
+        wide = ((0, 1), (*blocks, (900, rows, ("return", ret, (30,)))))
+        pairs = tuple((at, (at + 1) % 3000) for at in range(3000))
+        for call in (
+            lambda: live_at(machine, wide),
+            lambda: meetings(machine, wide),
+            lambda: assign(machine, wide, ()),
+            lambda: sequence(pairs, 5000),
+            lambda: sequence(pairs[1:], 5000),
+        ):
+            self.assertLessEqual(deepest(call), 100)
+
 
 class Bounds(unittest.TestCase):
     def test_the_largest_code(self):
@@ -244,6 +286,28 @@ class Bounds(unittest.TestCase):
         inputs = (1, 2, 3, 4, 5, 6)
         self.assertEqual(run_code(machine, wide, inputs, fuel=100), run(function, inputs, fuel=100))
         self.assertGreater(cost_of(machine, wide), 2400)
+
+    def test_the_longest_blocks(self):
+        # Long blocks of many names, and sixteen variables that are live everywhere.
+        dice = Dice(4)
+        machine = untied(full_machine(dice, 16, 12, 64))
+        rows = []
+        for label in range(40):
+            body = tuple(("set", dice.number(0, 15), dice.expression(16, 7, 16)) for _ in range(60))
+            rows.append((label, body, ("if", ("var", 0), min(label + 1, 39), max(label, 1))))
+        function = (16, 6, tuple(rows))
+        wide, fixed = tied(machine, emit(machine, function))
+        ordered = []
+        for label, body, end in wide[1]:
+            cycles = list_schedule(machine, body)
+            self.assertTrue(is_schedule(machine, body, cycles))
+            ordered.append((label, tuple(in_order(body, cycles)), end))
+        code, places = assign(machine, (wide[0], tuple(ordered)), fixed)
+        self.assertEqual(code_faults(machine, code), [])
+        self.assertEqual(len(places), 16)
+        inputs = (1, 2, 3, 4, 5, 6)
+        self.assertEqual(run_code(machine, code, inputs, fuel=60), run(function, inputs, fuel=60))
+        self.assertGreater(len(meetings(machine, wide)), 10000)
 
     def test_the_largest_function(self):
         dice = Dice(1)
