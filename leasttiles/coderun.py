@@ -1,9 +1,9 @@
 """Runs of code."""
 
-from leasttiles.codes import tile_of, top_op
-from leasttiles.machines import nodes_value, tile_nodes
+from leasttiles.codes import reads, tile_of, top_op
+from leasttiles.machines import operands_value, tile_nodes
 from leasttiles.plays import Steps, finish
-from leasttiles.words import CELLS, top
+from leasttiles.words import CELLS
 
 
 class CodePlay(Steps):
@@ -18,9 +18,14 @@ class CodePlay(Steps):
         self.nodes = {}
 
     def block_nodes(self):
-        """For each instruction of the block and its end the nodes of its tile, which are worked out only once."""
+        """For each instruction of the block and its end the nodes of its tile, which are worked out only once.
+
+        The registers that the block reads get their words then, too, if they have none.
+        """
         if self.label not in self.nodes:
             _, rows, end = self.blocks[self.label]
+            for r in [r for item in [*rows, end] for r in reads(self.machine, item)]:
+                self.registers.setdefault(r, 0)
             tiles = [tile_of(item) for item in [*rows, end]]
             self.nodes[self.label] = [tile_nodes(self.machine, found[0]) if found else [] for found in tiles]
         return self.nodes[self.label]
@@ -34,11 +39,11 @@ class CodePlay(Steps):
             if row[0] == "tile":
                 self.do_tile(row, nodes[at])
             elif row[0] == "spill":
-                self.frame[row[1]] = self.registers.get(row[2], 0)
+                self.frame[row[1]] = self.registers[row[2]]
             elif row[0] == "fill":
                 self.registers[row[1]] = self.frame.get(row[2], 0)
             else:
-                self.registers[row[1]] = self.registers.get(row[2], 0)
+                self.registers[row[1]] = self.registers[row[2]]
         self.do_end(end, nodes[-1])
 
     def do_tile(self, row, nodes):
@@ -64,12 +69,7 @@ class CodePlay(Steps):
 
     def value_of(self, nodes, operands):
         """What a tile with these nodes gives for operands."""
-        width = self.machine[0]
-        plain = [node for node, count in nodes if count == 0]
-        words = []
-        for leaf, operand in zip(plain, operands):
-            words.append(self.registers.get(operand, 0) if leaf[0] == "reg" else operand & top(width))
-        return nodes_value(width, nodes, words, self.memory)
+        return operands_value(self.machine[0], nodes, operands, self.registers, self.memory)
 
 
 def run_code(machine, code, inputs, *, fuel):

@@ -68,7 +68,7 @@ def _numbered(token, sign):
 def _take_numbered(line, sign):
     number = _numbered(line.take(), sign)
     if number is None:
-        raise TextError(line.number)
+        raise TextError(line.where)
     return number
 
 
@@ -99,7 +99,7 @@ def _read_tile(line, names):
     while True:
         name = line.take()
         if name not in names:
-            raise TextError(line.number)
+            raise TextError(line.where)
         if line.peek() == "[":
             line.need("[")
             around.append((names[name], []))

@@ -190,25 +190,33 @@ def _apply(width, op, parts, memory):
     return compute(op, width, parts[0], parts[-1])
 
 
-def nodes_value(width, nodes, words, memory):
-    """What the nodes of a tile's whole pattern give for the words of its leaves."""
+def folded(nodes, words, action):
+    """What nodes give for the words of their leaves; action tells what an op gives for its parts."""
     found = []
     at = 0
     for node, count in nodes:
         if count > 0:
             behind = len(found) - count
-            found[behind:] = [_apply(width, node, found[behind:], memory)]
+            found[behind:] = [action(node, found[behind:])]
         else:
             found.append(words[at])
             at += 1
     return found[0]
 
 
+def with_leaves(nodes, operands):
+    """The leaves among nodes, each with its operand."""
+    return list(zip([node for node, count in nodes if count == 0], operands))
+
+
+def operands_value(width, nodes, operands, registers, memory):
+    """What the nodes of a tile's whole pattern give for its operands."""
+    words = []
+    for leaf, operand in with_leaves(nodes, operands):
+        words.append(registers[operand] if leaf[0] == "reg" else operand & top(width))
+    return folded(nodes, words, lambda op, parts: _apply(width, op, parts, memory))
+
+
 def tile_value(machine, tile, operands, registers, memory):
     """The word of a tile's pattern, or the pair of address and word for a store."""
-    width = machine[0]
-    nodes = tile_nodes(machine, tile)
-    words = []
-    for leaf, operand in zip(leaves(machine, tile), operands):
-        words.append(registers[operand] if leaf[0] == "reg" else operand & top(width))
-    return nodes_value(width, nodes, words, memory)
+    return operands_value(machine[0], tile_nodes(machine, tile), operands, registers, memory)

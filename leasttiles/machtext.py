@@ -52,7 +52,7 @@ def _read_leaf(line):
     if token == "$":
         return ("nt", line.take_name())
     if token != "imm":
-        raise TextError(line.number)
+        raise TextError(line.where)
     line.need("(")
     least = line.take_signed()
     line.need(",")
@@ -80,7 +80,7 @@ def _read_tie(line):
     if word in ("same", "result"):
         return (word, line.take_signed())
     if word != "needs":
-        raise TextError(line.number)
+        raise TextError(line.where)
     return (word, line.take_signed(), line.take_signed())
 
 

@@ -26,7 +26,7 @@ def show_nested(e, show_leaf):
 def read_nested(line, read_leaf, deep=MOST_DEEP):
     """Take an expression or pattern from a line that nests at most so deep."""
     if deep < 1:
-        raise TextError(line.number)
+        raise TextError(line.where)
     token = line.peek()
     if token == "[":
         line.need("[")
@@ -46,7 +46,7 @@ def _read_pair(line, read_leaf, deep):
     first = read_nested(line, read_leaf, deep - 1)
     sign = line.take()
     if sign not in PAIR_SIGNS:
-        raise TextError(line.number)
+        raise TextError(line.where)
     second = read_nested(line, read_leaf, deep - 1)
     line.need(")")
     return (PAIRS[PAIR_SIGNS.index(sign)], first, second)

@@ -39,7 +39,7 @@ class Line:
     """The tokens of one line, taken from the left."""
 
     def __init__(self, number, text):
-        self.number = number
+        self.where = number
         self.tokens = _tokens_of(text)
         self.at = 0
 
@@ -56,13 +56,13 @@ class Line:
     def need(self, token):
         """Pass a token that must stand next."""
         if self.take() != token:
-            raise TextError(self.number)
+            raise TextError(self.where)
 
     def take_number(self):
         """The number that must stand next."""
         number = number_of(self.take())
         if number is None:
-            raise TextError(self.number)
+            raise TextError(self.where)
         return number
 
     def take_signed(self):
@@ -73,20 +73,20 @@ class Line:
         self.at += 1
         number = self.take_number()
         if self.tokens[self.at - 1][1] != minus + 1:
-            raise TextError(self.number)
+            raise TextError(self.where)
         return -number
 
     def take_name(self):
         """The word that must stand next and begins with a letter."""
         token = self.take()
         if token == "" or token[0] not in LETTERS:
-            raise TextError(self.number)
+            raise TextError(self.where)
         return token
 
     def close(self):
         """See that no token is left."""
         if self.at < len(self.tokens):
-            raise TextError(self.number)
+            raise TextError(self.where)
 
 
 class Lines:

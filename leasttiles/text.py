@@ -51,7 +51,7 @@ def _read_leaf(line):
         return ("int", number)
     v = _variable_of(token)
     if v is None:
-        raise TextError(line.number)
+        raise TextError(line.where)
     return ("var", v)
 
 
@@ -70,7 +70,7 @@ def _read_number_line(lines, word):
 def _read_set(line):
     v = _variable_of(line.take())
     if v is None:
-        raise TextError(line.number)
+        raise TextError(line.where)
     line.need("=")
     return ("set", v, _read_expression(line))
 

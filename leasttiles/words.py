@@ -85,3 +85,8 @@ def compute(op, w, x, y):
     """The word that an op gives at a width; the ops of one part do not look at y."""
     action = _ACTIONS[op]
     return action(w, x, y)
+
+
+def words_at(width, inputs, number):
+    """So many words as the tuple that stands at a number among all such tuples, which are ascending."""
+    return tuple([number >> (width * behind) & top(width) for behind in range(inputs - 1, -1, -1)])

@@ -5,7 +5,9 @@ import inspect
 import sys
 import unittest
 
+from build_samples import built
 from code_samples import full_machine, tile_of_name, untied, with_rules
+from leasttiles.checker import check, refusal
 from leasttiles.codes import code_faults, cost_of, reads
 from leasttiles.colour import assign
 from leasttiles.coderun import run_code
@@ -15,6 +17,7 @@ from leasttiles.depend import depends
 from leasttiles.emit import emit, tied
 from leasttiles.errors import TextError
 from leasttiles.functions import function_faults, live_in, uses
+from leasttiles.judge import judge, judge_sequence
 from leasttiles.listing import read_code, show_code
 from leasttiles.live import live_at, meetings
 from leasttiles.machines import (
@@ -24,6 +27,8 @@ from leasttiles.machtext import read_machine, show_machine
 from leasttiles.moves import sequence
 from leasttiles.run import run, trace
 from leasttiles.schedule import in_order, is_schedule, least_schedule, list_schedule
+from leasttiles.sequences import least_sequence, sequence_cost, sequence_value
+from leasttiles.terms import Terms
 from leasttiles.text import read_function, show_expression, show_function
 from samples import REG, Dice, nest, wrap
 
@@ -65,6 +70,22 @@ INTERFACE = {
     "live": {"live_at": "(machine, wide)", "meetings": "(machine, wide)"},
     "colour": {"assign": "(machine, wide, fixed)"},
     "moves": {"sequence": "(pairs, spare)"},
+    "terms": {"Terms": "(width)"},
+    "checker": {
+        "check": "(machine, function, code, certificate)", "refusal": "(machine, function, code, certificate)",
+    },
+    "judge": {"judge": "(width, inputs, first, second)", "judge_sequence": "(machine, inputs, sequence, e)"},
+    "sequences": {
+        "sequence_value": "(machine, sequence, words)", "sequence_cost": "(machine, sequence)",
+        "least_sequence": "(machine, inputs, e, numbers, most)",
+    },
+}
+
+METHODS = {
+    ("terms", "Terms"): {
+        "number": "(self, n)", "leaf": "(self, name)", "apply": "(self, op, parts)",
+        "load": "(self, address, stores)", "same": "(self, a, b)", "value_of": "(self, t, look, loads)",
+    },
 }
 
 # Its tiles of the kind a nest without a limit, and so do its covers.
@@ -119,6 +140,13 @@ class Interface(unittest.TestCase):
                 self.assertEqual(found.__module__, f"leasttiles.{module_name}", name)
                 if arguments is not None:
                     self.assertEqual(str(inspect.signature(found)), arguments, name)
+
+    def test_methods_stand_in_their_classes(self):
+        for (module_name, class_name), names in METHODS.items():
+            found = getattr(importlib.import_module(f"leasttiles.{module_name}"), class_name)
+            for name, arguments in names.items():
+                self.assertIn(name, vars(found))
+                self.assertEqual(str(inspect.signature(vars(found)[name])), arguments, name)
 
     def test_trace_is_a_generator_function(self):
         self.assertTrue(inspect.isgeneratorfunction(trace))
@@ -270,7 +298,65 @@ class Depth(unittest.TestCase):
             self.assertLessEqual(deepest(call), 100)
 
 
+    def test_checker(self):
+        machine = untied(full_machine(Dice(2), 8, 8, 64))
+        e = nest("not", ("add", ("var", 3), ("load", ("var", 1))), 19)
+        body = tuple(item for v in range(20) for item in (("set", v, e), ("store", e, ("var", v)), ("write", e)))
+        function = (8, 2, ((0, body, ("go", 1)), (1, (), ("return", e))))
+        code, certificate = built(machine, function)
+        terms = Terms(8)
+
+        def long_chain():
+            t = terms.leaf(("a",))
+            for number in range(5000):
+                t = terms.apply("xor", (terms.load(t, number), terms.apply("not", (t,))))
+            loads = {(at, number): 7 for at in range(16) for number in range(5000)}
+            self.assertEqual(terms.value_of(t, {("a",): 1}, loads) & 1, 1)
+
+        for call in (
+            long_chain,
+            lambda: self.assertTrue(check(machine, function, code, certificate)),
+            lambda: refusal(machine, function, code, wrap(1, 50000)),
+            lambda: refusal(machine, function, wrap(1, 50000), certificate),
+        ):
+            self.assertLessEqual(deepest(call), 100)
+
+    def test_sequences(self):
+        tile = (1, ())
+        for _ in range(88):
+            tile = (0, (tile,))
+        machine = with_rules(NESTING, rules=(*NESTING[4], ("rega2", "reg", ("nt", "a"), 1, 1, 0, ())))
+        items = tuple(((10, (tile,)), (at,)) for at in range(300))
+        for call in (
+            lambda: self.assertEqual(sequence_value(machine, items, (5,)), 5),
+            lambda: sequence_cost(machine, items),
+            lambda: judge_sequence(machine, 1, items[:3], nest("neg", ("var", 0), 20)),
+            lambda: judge(8, 2, nest("neg", ("var", 0), 20), ("var", 1)),
+            lambda: least_sequence(machine, 1, nest("not", ("var", 0), 20), (0, 1), 9),
+        ):
+            self.assertLessEqual(deepest(call), 100)
+
+
 class Bounds(unittest.TestCase):
+    def test_the_longest_blocks_for_the_checker(self):
+        # Sums that double, stores and loads at each other's addresses, and products of what came before.
+        machine = untied(full_machine(Dice(4), 16, 12, 64))
+        body = []
+        for k in range(15):
+            body.append(("set", 0, ("add", ("add", ("var", 0), ("var", 1)), ("add", ("var", 0), ("var", 2)))))
+            body.append(("set", 1, ("mul", ("sub", ("var", 1), ("var", 0)), ("add", ("load", ("var", 0)), ("var", 1)))))
+            body.append(("store", ("sub", ("var", 1), ("int", k)), ("add", ("load", ("var", 1)), ("var", 0))))
+            body.append(("set", 2, ("sub", ("load", ("var", 2)), ("add", ("var", 0), ("var", 1)))))
+        blocks = [(label, tuple(body), ("if", ("var", 0), min(label + 1, 39), max(label, 1))) for label in range(40)]
+        function = (16, 3, tuple(blocks))
+        code, certificate = built(machine, function)
+        self.assertTrue(check(machine, function, code, certificate))
+        label, rows, end = code[1][20]
+        at = max(at for at, row in enumerate(rows) if row[0] == "tile" and row[2] == -1)
+        worse = (*code[1][:20], (label, rows[:at] + rows[at + 1:], end), *code[1][21:])
+        self.assertFalse(check(machine, function, (code[0], worse), certificate))
+        self.assertEqual(run_code(machine, code, (1, 2, 3), fuel=60), run(function, (1, 2, 3), fuel=60))
+
     def test_the_largest_code(self):
         dice = Dice(4)
         machine = full_machine(dice, 16, 16, 64)

@@ -209,6 +209,26 @@ class Rules(unittest.TestCase):
             self.assertEqual(left.func.id, "type", place)
             self.assertIn(right.id, ("int", "str", "tuple", "list", "bool", "dict"), place)
 
+    def test_no_name_is_a_method_and_an_attribute(self):
+        methods, attributes = set(), set()
+        for _, tree in self.each():
+            for node in ast.walk(tree):
+                if isinstance(node, ast.ClassDef):
+                    methods |= {part.name for part in node.body if isinstance(part, ast.FunctionDef)}
+                if isinstance(node, ast.Attribute) and isinstance(node.ctx, ast.Store):
+                    attributes.add(node.attr)
+        self.assertEqual(methods & attributes, set())
+
+    def test_generators_have_names_of_their_own(self):
+        generators, others = [], []
+        for _, tree in self.each():
+            for node in ast.walk(tree):
+                if isinstance(node, ast.FunctionDef):
+                    yields = any(isinstance(part, (ast.Yield, ast.YieldFrom)) for part in ast.walk(node))
+                    (generators if yields else others).append(node.name)
+        self.assertEqual(set(generators) & set(others), set())
+        self.assertEqual(len(generators), len(set(generators)))
+
     def test_iterators_are_used_at_once(self):
         for path, tree in self.each():
             for node in ast.walk(tree):
