@@ -7,6 +7,9 @@ import unittest
 
 from build_samples import built
 from code_samples import full_machine, tile_of_name, untied, with_rules
+from form_samples import any_table
+from leasttiles.assemble import assemble, disassemble
+from leasttiles.backend import build
 from leasttiles.checker import check, refusal
 from leasttiles.codes import code_faults, cost_of, reads
 from leasttiles.colour import assign
@@ -15,8 +18,10 @@ from leasttiles.costs import check_costs, cost_table, parts
 from leasttiles.covers import cover_cost, holes, least_cover, uncovered
 from leasttiles.depend import depends
 from leasttiles.emit import emit, tied
-from leasttiles.errors import TextError
+from leasttiles.errors import PackError, TextError
+from leasttiles.forms import decode, encode, overlaps, table_faults
 from leasttiles.functions import function_faults, live_in, uses
+from leasttiles.house import House
 from leasttiles.judge import judge, judge_sequence
 from leasttiles.listing import read_code, show_code
 from leasttiles.live import live_at, meetings
@@ -25,6 +30,7 @@ from leasttiles.machines import (
 )
 from leasttiles.machtext import read_machine, show_machine
 from leasttiles.moves import sequence
+from leasttiles.packing import pack, unpack
 from leasttiles.run import run, trace
 from leasttiles.schedule import in_order, is_schedule, least_schedule, list_schedule
 from leasttiles.sequences import least_sequence, sequence_cost, sequence_value
@@ -79,12 +85,26 @@ INTERFACE = {
         "sequence_value": "(machine, sequence, words)", "sequence_cost": "(machine, sequence)",
         "least_sequence": "(machine, inputs, e, numbers, most)",
     },
+    "forms": {
+        "table_faults": "(machine, value)", "overlaps": "(machine, table)",
+        "encode": "(machine, table, item, distance)", "decode": "(machine, table, word)",
+    },
+    "assemble": {"assemble": "(machine, table, code)", "disassemble": "(machine, table, words, params)"},
+    "backend": {
+        "build": "(machine, function, *, ordered=True)", "trim": "(machine, function, code, certificate)",
+    },
+    "house": {"House": "(machine, function)"},
+    "packing": {"pack": "(value)", "unpack": "(data)"},
 }
 
 METHODS = {
     ("terms", "Terms"): {
         "number": "(self, n)", "leaf": "(self, name)", "apply": "(self, op, parts)",
         "load": "(self, address, stores)", "same": "(self, a, b)", "value_of": "(self, t, look, loads)",
+    },
+    ("house", "House"): {
+        "code": "(self)", "certificate": "(self)", "cost": "(self)", "run": "(self, inputs, *, fuel)",
+        "same": "(self, inputs, *, fuel)", "listing": "(self)", "change": "(self, machine)", "report": "(self)",
     },
 }
 
@@ -337,7 +357,68 @@ class Depth(unittest.TestCase):
             self.assertLessEqual(deepest(call), 100)
 
 
+    def test_forms(self):
+        tile = (1, ())
+        for _ in range(88):
+            tile = (0, (tile,))
+        shape = (5, (tile,))
+        machine = with_rules(NESTING, rules=(*NESTING[4], ("ret", "", ("return", REG), 1, 1, 0, ())))
+        table = ((shape, (("bits", 1, 1), ("leaf", 0, 31))), ((10, ()), (("bits", 1, 0), ("leaf", 0, 31))))
+        code = ((0,), ((0, (("tile", shape, -1, (0,)),), ("return", (10, ()), (0,))),))
+        words = assemble(machine, table, code)[0]
+        for call in (
+            lambda: self.assertEqual(table_faults(machine, table), []),
+            lambda: table_faults(machine, wrap(1, 50000)),
+            lambda: table_faults(machine, ((wrap(1, 50000), ()), (shape, wrap(1, 50000)), ("go", (wrap(1, 50000),)))),
+            lambda: overlaps(machine, table),
+            lambda: encode(machine, table, code[1][0][1][0], 0),
+            lambda: decode(machine, table, words[0]),
+            lambda: assemble(machine, table, code),
+            lambda: self.assertEqual(disassemble(machine, table, words * 500, (0,))[1][0], code[1][0]),
+        ):
+            self.assertLessEqual(deepest(call), 100)
+
+    def test_back_end(self):
+        machine = untied(full_machine(Dice(2), 8, 8, 64))
+        e = nest("not", ("add", ("var", 3), ("load", ("var", 1))), 19)
+        body = tuple(item for v in range(5) for item in (("set", v, e), ("store", e, ("var", v)), ("write", e)))
+        function = (8, 2, ((0, body, ("go", 1)), (1, (), ("return", e))))
+
+        def too_deep():
+            with self.assertRaises(PackError):
+                pack(wrap(1, 50000))
+            with self.assertRaises(PackError):
+                unpack([6, 1] * 50000)
+
+        for call in (
+            lambda: House(machine, function).report(),
+            lambda: build(machine, function, ordered=False),
+            lambda: unpack(pack(wrap((1, "a"), 59))),
+            too_deep,
+        ):
+            self.assertLessEqual(deepest(call), 100)
+
+
 class Bounds(unittest.TestCase):
+    def test_the_largest_function_in_a_house(self):
+        dice = Dice(9)
+        machine = full_machine(dice, 16, 16, 64, ties=False)
+        rows = []
+        for label in range(40):
+            body = tuple(dice.statement(16, 3) for _ in range(60))
+            rows.append((label, body, ("if", ("var", 0), min(label + 1, 39), max(label, 1))))
+        function = (16, 6, tuple(rows))
+        house = House(machine, function)
+        self.assertTrue(check(machine, function, house.code(), house.certificate()))
+        self.assertTrue(house.same((1, 2, 3, 4, 5, 6), fuel=60))
+        table = any_table(dice, machine, house.code())
+        words, addresses = assemble(machine, table, house.code())
+        self.assertEqual(len(addresses), 40)
+        back = disassemble(machine, table, words, house.code()[0])
+        wanted = house.run((1, 2, 3, 4, 5, 6), fuel=60)[0]
+        self.assertEqual(run_code(machine, back, (1, 2, 3, 4, 5, 6), fuel=400)[0][:len(wanted)], wanted)
+        self.assertEqual(unpack(pack(house.code())), house.code())
+
     def test_the_longest_blocks_for_the_checker(self):
         # Sums that double, stores and loads at each other's addresses, and products of what came before.
         machine = untied(full_machine(Dice(4), 16, 12, 64))
