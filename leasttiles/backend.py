@@ -2,11 +2,12 @@
 
 from leasttiles.coderun import run_code
 from leasttiles.colour import assign
-from leasttiles.deeds import Duty, rows_of
+from leasttiles.deeds import Duty
 from leasttiles.emit import emit, tied
 from leasttiles.live import live_at
 from leasttiles.run import run
 from leasttiles.schedule import in_order, list_schedule
+from leasttiles.trimmer import trimmed_rows
 
 
 def _in_best_order(machine, block):
@@ -28,15 +29,6 @@ def build(machine, function, *, ordered=True):
     return (code, tuple(sorted(certificate)))
 
 
-def _trimmed(duty, rows):
-    """The rows of a block without those that are not needed for what it has to do."""
-    for at in range(len(rows) - 2, -1, -1):
-        fewer = rows[:at] + rows[at + 1:]
-        if duty.reason(fewer) is None:
-            rows = fewer
-    return rows
-
-
 def trim(machine, function, code, certificate):
     """The code, which check takes with the certificate, without instructions that can be left out."""
     params, blocks = code
@@ -45,8 +37,7 @@ def trim(machine, function, code, certificate):
     for block in blocks:
         # What one block does depends on no other one, so only the block itself is asked.
         duty = Duty(function, params, certificate, wanted[block[0]])
-        rows = _trimmed(duty, rows_of(machine, block))
-        found.append((block[0], tuple([item for item, _ in rows[:-1]]), block[2]))
+        found.append((block[0], trimmed_rows(machine, duty, block), block[2]))
     return (params, tuple(found))
 
 

@@ -1,6 +1,7 @@
 """What blocks of functions and of code do, as terms."""
 
 from leasttiles.codes import tile_of
+from leasttiles.depend import gives
 from leasttiles.functions import successors
 from leasttiles.machines import folded, tile_nodes, with_leaves
 from leasttiles.rules import TOPS
@@ -73,21 +74,23 @@ class CodeDeeds(Deeds):
         found = folded(nodes, words, self.do_op)
         return found if nodes[-1][0] in TOPS else [found]
 
+    def outcome(self, item, nodes):
+        """The terms that an instruction gives, writes or stores, or that an end tests or returns."""
+        pair = tile_of(item)
+        if pair is not None:
+            return self.tile_terms(nodes, pair[1])
+        return [] if item[0] == "go" else [self.value(("cell" if item[0] == "fill" else "reg", item[2]))]
+
     def do_row(self, row, nodes):
         """Do an instruction; nodes are those of its tile."""
-        if row[0] == "tile":
-            found = self.tile_terms(nodes, row[3])
-            if row[2] >= 0:
-                self.values_now[("reg", row[2])] = found[0]
-            elif nodes[-1][0] == "store":
-                self.stores.extend(found)
-            else:
-                self.writes.extend(found)
-        elif row[0] == "spill":
-            self.values_now[("cell", row[1])] = self.value(("reg", row[2]))
+        found = self.outcome(row, nodes)
+        places = gives(row)
+        if places != ():
+            self.values_now[places[0]] = found[0]
+        elif nodes[-1][0] == "store":
+            self.stores.extend(found)
         else:
-            source = "cell" if row[0] == "fill" else "reg"
-            self.values_now[("reg", row[1])] = self.value((source, row[2]))
+            self.writes.extend(found)
 
     def do_block(self, rows):
         """Do rows, pairs of an instruction and the nodes of its tile, and the end, which is the last one."""
@@ -97,8 +100,7 @@ class CodeDeeds(Deeds):
         if end[0] == "go":
             self.end = end
         else:
-            word = "if" if end[0] == "branch" else "return"
-            self.end = (word, *self.tile_terms(nodes, end[2]), *end[3:])
+            self.end = ("if" if end[0] == "branch" else "return", *self.outcome(end, nodes), *end[3:])
 
 
 def rows_of(machine, block):
@@ -138,17 +140,22 @@ class Duty:
             return mine == other
         return mine[0] == other[0] and mine[2:] == other[2:] and self.terms.same(mine[1], other[1])
 
+    def claims_behind(self):
+        """The claims of the blocks to which the end leads."""
+        return [claim for target in self.targets for claim in self.claims[target]]
+
     def keeps_claims(self, done):
         """Whether the variables stand where the blocks to which the end leads claim them."""
-        for target in self.targets:
-            for v, place in self.claims[target]:
-                if not self.terms.same(self.wanted.value(("var", v)), done.value(place)):
-                    return False
-        return True
+        rows = self.claims_behind()
+        return all(self.terms.same(self.wanted.value(("var", v)), done.value(place)) for v, place in rows)
+
+    def begin(self):
+        """What code has done at the beginning of the block."""
+        return CodeDeeds(self.terms, self.places, self.unknown)
 
     def reason(self, rows):
         """Why a block of code, as rows, is refused, or None."""
-        done = CodeDeeds(self.terms, self.places, self.unknown)
+        done = self.begin()
         done.do_block(rows)
         if not self.are_same(self.wanted.stores, done.stores):
             return "store"

@@ -14,7 +14,7 @@ from leasttiles.errors import NoRegisters, Uncovered
 from leasttiles.live import live_at
 from leasttiles.run import run
 from leasttiles.schedule import in_order, list_schedule
-from samples import COUNTDOWN, MACHINE, Dice
+from samples import COUNTDOWN, MACHINE, REG, Dice
 from test_checker import CERTIFICATE, CODE, ENTRY, FUNCTION, LAST, LOOP, PLAIN, branch, move, number, ret, tile, v
 
 
@@ -176,11 +176,11 @@ class Build(unittest.TestCase):
 
 
 class Trim(unittest.TestCase):
-    def trims(self, code, wanted, certificate=CERTIFICATE, function=FUNCTION):
-        self.assertIsNone(refusal(PLAIN, function, code, certificate))
-        self.assertEqual(trim(PLAIN, function, code, certificate), wanted)
-        self.assertEqual(plain_trim(PLAIN, function, code, certificate), wanted)
-        self.assertTrue(check(PLAIN, function, wanted, certificate))
+    def trims(self, code, wanted, certificate=CERTIFICATE, function=FUNCTION, machine=PLAIN):
+        self.assertIsNone(refusal(machine, function, code, certificate))
+        self.assertEqual(trim(machine, function, code, certificate), wanted)
+        self.assertEqual(plain_trim(machine, function, code, certificate), wanted)
+        self.assertTrue(check(machine, function, wanted, certificate))
 
     def test_nothing_to_leave_out(self):
         self.trims(CODE, CODE)
@@ -214,6 +214,24 @@ class Trim(unittest.TestCase):
         rows = (tile("addi", 0, 0, 1), tile("addi", 0, 0, -1))
         function = (8, 1, ((0, (), ("return", v(0))),))
         self.trims(((0,), ((0, rows, ret(0)),)), ((0,), ((0, rows, ret(0)),)), (), function)
+
+    def test_words_that_are_read_and_do_not_matter(self):
+        # Both rules read registers whose words do not count, as a sum takes them away or they are multiplied by 0.
+        rules = (*PLAIN[4], ("near", "reg", ("sub", ("add", ("load", REG), REG), REG), 1, 1, 0, ()),
+                 ("odd", "reg", ("mul", REG, ("sub", REG, REG)), 1, 1, 0, ()))
+        machine = with_rules(PLAIN, rules=rules)
+        near, odd = tile_of_name(machine, "near"), tile_of_name(machine, "odd")
+        function = (8, 2, ((0, (("store", v(0), v(1)),), ("return", ("load", v(1)))),))
+        rows = (tile("st", -1, 0, 1), tile("li", 2, 5), ("tile", near, 0, (1, 2, 2)))
+        self.trims(((0, 1), ((0, rows, ret(0)),)), ((0, 1), ((0, rows[::2], ret(0)),)), (), function, machine)
+        function = (8, 2, ((0, (), ("return", number(0))),))
+        rows = (move(2, 0), tile("li", 1, 0), tile("li", 2, 5), ("tile", odd, 0, (1, 2, 0)))
+        self.trims(((0, 1), ((0, rows, ret(0)),)), ((0, 1), ((0, rows[::3], ret(0)),)), (), function, machine)
+
+        # What goes last changes two registers, but not how far they are apart.
+        function = (8, 2, ((0, (), ("return", v(1))),))
+        rows = (tile("li", 2, 5), move(2, 0), tile("li", 2, 5), tile("addi", 3, 2, 1), ("tile", odd, 0, (1, 3, 2)))
+        self.trims(((0, 1), ((0, rows, ret(0)),)), ((0, 1), ((0, rows[3:], ret(0)),)), (), function, machine)
 
     def test_claims_keep_what_is_needed_later(self):
         rows = (*LOOP[1], move(3, 2))
