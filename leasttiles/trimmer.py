@@ -49,9 +49,10 @@ class Trimmer:
 
     def outcome_over(self, step, ahead):
         """The outcome of a step if other terms stand in the places ahead of it."""
-        self.probe.values_now = ahead
-        self.probe.stores = step.stores
-        return self.probe.outcome(step.item, step.nodes)
+        probe = self.probe
+        probe.values_now = ahead
+        probe.stores = step.stores
+        return probe.outcome(step.item, step.nodes)
 
     def pass_step(self, step, other):
         """What stands ahead of a step, and its outcome, where places in other have other terms; other is kept up.

@@ -116,6 +116,16 @@ class Pack(unittest.TestCase):
             self.assertEqual(repr(unpack(data)), repr(value))
             self.assertEqual(repr(unpack(tuple(data))), repr(value))
 
+    def test_nothing_is_changed(self):
+        data = pack((1, "ab", (None, -300, (True,))))
+        before = list(data)
+        unpack(data)
+        self.assertEqual(data, before)
+        unpack(before)
+        with self.assertRaises(PackError):
+            unpack(data[:-1])
+        self.assertEqual(data, before)
+
     def test_great_numbers(self):
         for n in (10 ** 3000, -10 ** 3000, 2 ** 7000 - 1, -2 ** 7000):
             self.assertEqual(unpack(pack(n)), n)
