@@ -121,7 +121,7 @@ class Duty:
         self.terms = Terms(function[0])
         # The inputs have names of their own, and nothing else is unknown at the entry.
         self.unknown = block[0] in self.claims
-        inputs = [self.terms.leaf(("input", v)) for v in range(function[1])]
+        inputs = [self.terms.leaf(("given", v)) for v in range(function[1])]
         given = {("var", v): term for v, term in enumerate(inputs)}
         self.places = {("reg", r): term for r, term in zip(params, inputs)}
         if self.unknown:

@@ -5,7 +5,8 @@ from leasttiles.machines import folded, leaves, operands_value, tile_cost, tile_
 from leasttiles.rules import pattern_leaves
 from leasttiles.words import words_at
 
-# So many rows are looked at first, as most values differ from the wanted one there already.
+# A few rows are looked at first, as most values differ from the wanted one there already: so many that stand far
+# apart, and so many in which different words are wanted.
 PROBES = 4
 
 
@@ -89,16 +90,25 @@ class Hunt:
         self.inputs = [self.columns.given(v) for v in range(inputs)]
         options = [Option(machine, tile, numbers) for tile in tiles_of(machine)]
         self.options = sorted(options, key=lambda option: (option.price, option.tile))
-        self.probes = [many - 1 - many * k // (PROBES + 1) for k in range(PROBES)]
+        self.probes = []
         self.target = -1
         self.won = None
+
+    def aim_at(self, e):
+        """Take an expression as the one whose value is looked for."""
+        self.target = self.columns.of_expression(e)
+        column = self.columns.columns[self.target]
+        many = len(column)
+        rows = {word: row for row, word in enumerate(column)}
+        apart = [many - 1 - many * k // (PROBES + 1) for k in range(PROBES)]
+        self.probes = [*list(rows.values())[:PROBES], *apart]
 
     def least_for(self, e):
         """The cost and the sequence of least cost that has an expression's value, or None.
 
         In such a sequence each item has a new value, which a later item uses, for else a shorter one would do.
         """
-        self.target = self.columns.of_expression(e)
+        self.aim_at(e)
         if self.most < 0:
             return None
         if self.target == self.inputs[0]:
